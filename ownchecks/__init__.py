@@ -1,0 +1,1 @@
+"""Codes that are their own checks, all of them."""

@@ -1,0 +1,121 @@
+"""What the tests reckon by themselves: sets of words, gone through in full. Nothing of the package is used here."""
+
+import itertools
+import random
+
+
+def ones(word):
+    return bin(word).count("1")
+
+
+def even(one, other):
+    return ones(one & other) % 2 == 0
+
+
+def total(words):
+    out = 0
+    for word in words:
+        out = out ^ word
+    return out
+
+
+def sums(words):
+    """All sums of some of the words, as a frozenset."""
+    found = {0}
+    for word in words:
+        found = found | {word ^ one for one in found}
+    return frozenset(found)
+
+
+def highest(word):
+    return max(place for place in range(25) if word >> place & 1)
+
+
+def heads(span):
+    return sorted({highest(word) for word in span if word})
+
+
+def basis(span):
+    """The basis by its definition: for each head the one word with this highest place, and 0 at all other heads."""
+    tops = heads(span)
+    out = []
+    for top in reversed(tops):
+        fitting = [word for word in span
+                   if word and highest(word) == top
+                   and not any(word >> other & 1 for other in tops if other != top)]
+        assert len(fitting) == 1
+        out.append(fitting[0])
+    return tuple(out)
+
+
+def dimension(span):
+    many = len(span).bit_length() - 1
+    assert len(span) == 2 ** many
+    return many
+
+
+def checks(length, span):
+    return frozenset(word for word in range(2 ** length) if all(even(word, one) for one in span))
+
+
+def spans(length):
+    """All spans of words of the length, each one as a frozenset."""
+    found = {frozenset({0})}
+    latest = found
+    while latest:
+        latest = {one | {word ^ other for other in one}
+                  for one in latest for word in range(2 ** length) if word not in one} - found
+        found = found | latest
+    return sorted(found, key=sorted)
+
+
+def told_tuples(length, most):
+    """All tuples of up to so many words of the length, words told twice and in each sequence among them."""
+    for many in range(most + 1):
+        yield from itertools.product(range(2 ** length), repeat=many)
+
+
+def small_tuples():
+    """Pairs of a length and of words: short lengths gone through in full."""
+    for length, most in ((1, 4), (2, 4), (3, 3), (4, 2)):
+        for words in told_tuples(length, most):
+            yield length, words
+    for words in itertools.combinations(range(16), 3):
+        yield 4, words
+
+
+def made_tuples(seed, lengths, most, many):
+    """Pairs of a length and of words, made from the seed alone."""
+    source = random.Random(seed)
+    for length in lengths:
+        for _ in range(many):
+            yield length, tuple(source.randrange(2 ** length) for _ in range(source.randrange(most + 1)))
+
+
+def lots(length):
+    """All ascending tuples of one place or more."""
+    for many in range(1, length + 1):
+        yield from itertools.combinations(range(length), many)
+
+
+def index_lots(many):
+    """All ascending tuples of indices, also ()."""
+    for some in range(many + 1):
+        yield from itertools.combinations(range(many), some)
+
+
+def cut(word, lot):
+    return int("0" + "".join(str(word >> place & 1) for place in reversed(lot)), 2)
+
+
+def trace(span, lot):
+    return frozenset(cut(word, lot) for word in span)
+
+
+def part(length, span, lot):
+    beside = [place for place in range(length) if place not in lot]
+    return frozenset(cut(word, lot) for word in span if not any(word >> place & 1 for place in beside))
+
+
+def is_own(length, span):
+    return checks(length, span) == span
