@@ -1,5 +1,6 @@
 """What the tests reckon by themselves: sets of words, gone through in full. Nothing of the package is used here."""
 
+import functools
 import itertools
 import random
 
@@ -119,3 +120,81 @@ def part(length, span, lot):
 
 def is_own(length, span):
     return checks(length, span) == span
+
+
+@functools.lru_cache(None)
+def own_codes(length):
+    """All own codes of the length, each one as a frozenset, grown word by word from 0 and all."""
+    latest = {frozenset({0, 2 ** length - 1})}
+    for _ in range(length // 2 - 1):
+        latest = {span | {word ^ one for one in span}
+                  for span in latest for word in range(2 ** length)
+                  if ones(word) % 2 == 0 and word not in span and all(even(word, one) for one in span)}
+    return tuple(sorted(latest, key=sorted))
+
+
+def apart(one, other):
+    """The distance of two own codes."""
+    return dimension(one) - dimension(one & other)
+
+
+def counts(length, words):
+    row = [0] * (length + 1)
+    for word in words:
+        row[ones(word)] += 1
+    return tuple(row)
+
+
+@functools.lru_cache(None)
+def power_row(length, other):
+    """The numbers K(w, other) for all w: the parts of the polynomial (1 - y) ** other (1 + y) ** (length - other)."""
+    row = [1]
+    for at in range(length):
+        sign = -1 if at < other else 1
+        row = [low + sign * high for low, high in zip(row + [0], [0] + row)]
+    return tuple(row)
+
+
+def transformed(row):
+    length = len(row) - 1
+    return tuple(sum(number * power_row(length, other)[weight] for other, number in enumerate(row))
+                 for weight in range(length + 1))
+
+
+def led(exchange, word):
+    return sum(2 ** exchange[place] for place in range(len(exchange)) if word >> place & 1)
+
+
+def led_code(exchange, span):
+    return frozenset(led(exchange, word) for word in span)
+
+
+def swapped(length, one, other):
+    """The exchange of two places."""
+    exchange = list(range(length))
+    exchange[one], exchange[other] = other, one
+    return tuple(exchange)
+
+
+@functools.lru_cache(None)
+def classes(length):
+    """A dict of all own codes of the length: equal numbers for alike ones, told by exchanges of two places."""
+    found = {}
+    for code in own_codes(length):
+        if code not in found:
+            number = len(set(found.values()))
+            latest = [code]
+            found[code] = number
+            while latest:
+                latest = [led_code(swapped(length, at, at + 1), one) for one in latest for at in range(length - 1)]
+                latest = sorted(set(latest) - set(found), key=sorted)
+                found.update((one, number) for one in latest)
+    return found
+
+
+@functools.lru_cache(None)
+def keepers(length, span):
+    """All exchanges that keep the code, a look at each exchange there is."""
+    words = basis(span)
+    return [exchange for exchange in itertools.permutations(range(length))
+            if all(led(exchange, word) in span for word in words)]

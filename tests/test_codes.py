@@ -8,23 +8,12 @@ from ownchecks.code.codes import Code, does_hold, dual, even_part, has_word, is_
 from ownchecks.code.codes import own_or_shown, part_on, trace_on, words_of
 from ownchecks.errors import TooMany
 from tests import naive
+from tests.kinds import EIGHT, PLAIN, SEVENS, STRIP, small_codes
 
 UNITS = tuple(2 ** place for place in range(24))
 PAIRS = tuple(3 * 4 ** at for at in range(12))
-PLAIN = Code(8, PAIRS[:4])
-EIGHT = Code(8, (15, 51, 85, 150))
 LONGEST = Code(24, PAIRS)
-# two sevens, and the own code of length 12 that has no words of weight 2
-SEVENS = Code(14, (15, 51, 85, 1920, 6528, 10880, 16383))
-STRIP = Code(12, (15, 60, 240, 960, 3840, 1365))
 ODD_VALUES = (None, True, False, "", "own", -1, 2 ** 24, 10 ** 5000, -10 ** 5000, (), (3,), [3], {3: 3}, Code(4, (3,)))
-
-
-def small_codes(least, most):
-    """Triples of a length, a span and its code: all of these lengths."""
-    for length in range(least, most + 1):
-        for span in naive.spans(length):
-            yield length, span, Code(length, naive.basis(span))
 
 
 class Codes(unittest.TestCase):

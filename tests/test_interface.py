@@ -6,6 +6,9 @@ import unittest
 from ownchecks.base import spans
 from ownchecks.code import codes
 from ownchecks.code.codes import Code
+from ownchecks.near import every, neighbours
+from ownchecks.same import exchanges
+from ownchecks.weigh import counts
 
 SPANS = {
     "is_word": ["length", "value"],
@@ -36,11 +39,66 @@ CODES = {
     "part_on": ["code", "lot"],
     "trace_on": ["code", "lot"],
 }
+COUNTS = {
+    "signs": ["length", "weight", "other"],
+    "counts_of": ["code"],
+    "dual_counts": ["code"],
+    "coset_counts": ["code", "word"],
+    "transformed": ["counts"],
+    "least_weight": ["code"],
+    "words_of_weight": ["code", "weight"],
+    "zero_lots": ["counts", "many"],
+    "dual_or_weight": ["counts"],
+}
+NEIGHBOURS = {
+    "neighbour": ["code", "word"],
+    "neighbours": ["code"],
+    "distance": ["one", "other"],
+    "shared": ["one", "other"],
+    "steps_from": ["one", "other"],
+    "nearer": ["one", "other"],
+    "way": ["one", "other"],
+    "is_way": ["one", "other", "value"],
+    "ways_count": ["length", "steps"],
+}
+EVERY = {
+    "child": ["code", "one", "other"],
+    "parent": ["code", "digit"],
+    "parents": ["code"],
+    "digit_of": ["code"],
+    "address_of": ["code"],
+    "code_at": ["address"],
+    "number_of": ["code"],
+    "code_by": ["length", "number"],
+    "count_of": ["length"],
+    "count_at": ["length", "steps"],
+    "codes": ["length"],
+}
+EXCHANGES = {
+    "is_exchange": ["length", "value"],
+    "backward": ["exchange"],
+    "one_behind": ["one", "other"],
+    "led_word": ["exchange", "word"],
+    "exchanged": ["code", "exchange"],
+    "does_keep": ["code", "exchange"],
+    "exchange_or_none": ["one", "other"],
+    "is_exchange_or_none": ["one", "other", "value"],
+    "tower_of": ["code"],
+    "order_of": ["code"],
+    "alike_count": ["code"],
+    "climb_of": ["code"],
+    "is_climb": ["code", "value"],
+    "orbits_of": ["code"],
+    "through": ["code", "place"],
+    "through_two": ["code", "place", "other"],
+}
+MODULES = ((spans, SPANS), (codes, CODES), (counts, COUNTS), (neighbours, NEIGHBOURS), (every, EVERY),
+           (exchanges, EXCHANGES))
 
 
 class Interface(unittest.TestCase):
     def test_functions(self):
-        for module, listed in ((spans, SPANS), (codes, CODES)):
+        for module, listed in MODULES:
             for name, arguments in listed.items():
                 told = getattr(module, name)
                 self.assertTrue(inspect.isfunction(told), name)
@@ -52,6 +110,7 @@ class Interface(unittest.TestCase):
 
     def test_constants(self):
         self.assertEqual([spans.MOST_LENGTH, spans.MOST_WORDS, spans.MOST_SPANNED, codes.MOST_LISTED], [24, 64, 12, 12])
+        self.assertEqual([counts.MOST_WORDS, exchanges.MOST_LENGTH], [4096, 16])
 
     def test_class(self):
         self.assertTrue(inspect.isclass(Code))
@@ -76,6 +135,29 @@ class Interface(unittest.TestCase):
         for answer in (codes.dual(some), codes.even_part(some), codes.part_on(some, (0, 2)),
                        codes.trace_on(some, (0, 2))):
             self.assertIs(type(answer), Code)
+
+    def test_kinds_of_later_answers(self):
+        own, other = Code(4, (3, 12)), Code(4, (5, 10))
+        for answer in (counts.signs(4, 2, 2), counts.least_weight(own), counts.zero_lots((1, 0), 1),
+                       neighbours.distance(own, other), neighbours.ways_count(4, 1), every.digit_of(own),
+                       every.number_of(other), every.count_of(4), every.count_at(4, 1), exchanges.led_word((1, 0), 2),
+                       exchanges.order_of(own), exchanges.alike_count(own)):
+            self.assertIs(type(answer), int)
+        for answer in (counts.counts_of(own), counts.dual_counts(own), counts.coset_counts(own, 1),
+                       counts.transformed((1, 0)), counts.words_of_weight(own, 2), counts.dual_or_weight((1, 1)),
+                       counts.dual_or_weight((1, 1))[1], counts.dual_or_weight((1, 2)), neighbours.neighbours(own),
+                       neighbours.steps_from(own, other), neighbours.nearer(own, other), neighbours.way(own, other),
+                       every.parents(own), every.address_of(own), exchanges.backward((0,)),
+                       exchanges.one_behind((0,), (0,)), exchanges.exchange_or_none(own, other),
+                       exchanges.tower_of(own), exchanges.tower_of(own)[0], exchanges.climb_of(own),
+                       exchanges.climb_of(own)[0], exchanges.climb_of(own)[0][0], exchanges.orbits_of(own),
+                       exchanges.orbits_of(own)[0], exchanges.through(own, 0), exchanges.through_two(own, 0, 1)):
+            self.assertIs(type(answer), tuple)
+        for answer in (neighbours.neighbour(own, 5), neighbours.shared(own, other), neighbours.way(own, other)[1],
+                       every.child(own, 0, 2), every.parent(own, 1), every.code_at((1,)), every.code_by(4, 2),
+                       exchanges.exchanged(own, (1, 2, 3, 0))):
+            self.assertIs(type(answer), Code)
+        self.assertTrue(inspect.isgenerator(every.codes(4)))
 
 
 if __name__ == "__main__":

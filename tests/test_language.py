@@ -17,6 +17,7 @@ isupper items join keys ljust lower lstrip partition pop remove replace reverse 
 setdefault split splitlines startswith strip update upper values zfill bit_length add discard""".split())
 BARRED = set("""typing typing_extensions enum Enum Generic Protocol ABC namedtuple NamedTuple TypedDict dataclass
 register mro elements open input law version_info eval exec globals locals vars compile os gc id hash sys""".split())
+LIBRARY = {"gcd", "lcm", "isqrt", "comb", "perm", "factorial"}
 UNUSED = (ast.Global, ast.AsyncFunctionDef, ast.Await, ast.Set, ast.GeneratorExp, ast.Div, ast.MatMult, ast.Import,
           ast.AnnAssign)
 
@@ -63,7 +64,9 @@ class Language(unittest.TestCase):
     def test_imports_name_the_defining_file(self):
         for path, tree in trees():
             for node in ast.walk(tree):
-                if isinstance(node, ast.ImportFrom):
+                if isinstance(node, ast.ImportFrom) and node.module == "math":
+                    self.assertLessEqual({name.name for name in node.names}, LIBRARY)
+                elif isinstance(node, ast.ImportFrom):
                     source = FOLDER.parent / (node.module.replace(".", "/") + ".py")
                     self.assertTrue(source.is_file(), (path, node.module))
                     defined = {getattr(one, "name", None) or one.targets[0].id
@@ -71,6 +74,30 @@ class Language(unittest.TestCase):
                                if isinstance(one, (ast.FunctionDef, ast.ClassDef, ast.Assign))}
                     self.assertLessEqual({name.name for name in node.names}, defined)
                     self.assertFalse([name for name in node.names if name.asname])
+
+    def test_imports_are_used(self):
+        for path, tree in trees():
+            used = {node.id for node in ast.walk(tree) if isinstance(node, ast.Name)}
+            for node in ast.walk(tree):
+                if isinstance(node, ast.ImportFrom):
+                    self.assertLessEqual({name.name for name in node.names}, used, path)
+
+    def test_names_of_the_library_are_only_called(self):
+        for path, tree in trees():
+            told = [name.name for node in ast.walk(tree) if isinstance(node, ast.ImportFrom) and node.module == "math"
+                    for name in node.names]
+            named = [node for node in ast.walk(tree) if isinstance(node, ast.Name) and node.id in told]
+            called = [node.func for node in ast.walk(tree) if isinstance(node, ast.Call)]
+            self.assertFalse([node.id for node in named if node not in called], path)
+
+    def test_no_file_imports_itself(self):
+        sources = {".".join(path.relative_to(FOLDER.parent).with_suffix("").parts): tree for path, tree in trees()}
+        needs = {name: {node.module for node in tree.body if isinstance(node, ast.ImportFrom)} & set(sources)
+                 for name, tree in sources.items()}
+        while needs:
+            free = [name for name, others in needs.items() if not others & set(needs)]
+            self.assertTrue(free, needs)
+            needs = {name: others for name, others in needs.items() if name not in free}
 
     def test_names(self):
         for path, tree in trees():

@@ -118,6 +118,13 @@ def meet_by(length, one, other):
     return checks_by(length, basis_by(checks_by(length, one) + checks_by(length, other)))
 
 
+def even_with(rows, word):
+    """Words that span those words of the span of the rows that are even with the word."""
+    odd = [row for row in rows if product_bit(row, word)]
+    even = [row for row in rows if not product_bit(row, word)]
+    return even + [odd[0] ^ row for row in odd[1:]]
+
+
 def parts_by(words, word):
     """The indices of told words whose sum is the word, or None if there are none such."""
     rows = []

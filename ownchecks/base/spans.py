@@ -10,10 +10,15 @@ MOST_WORDS = 64
 MOST_SPANNED = 12
 
 
+def need_number(given, least, most):
+    """Refuse what is no integer from least to most."""
+    if not is_from_to(given, least, most):
+        raise InvalidNumber(given)
+
+
 def need_length(length):
     """Refuse what is no length."""
-    if not is_from_to(length, 1, MOST_LENGTH):
-        raise InvalidNumber(length)
+    need_number(length, 1, MOST_LENGTH)
 
 
 def need_word(length, word):
@@ -147,9 +152,8 @@ def meet_of(length, words, others):
 
 def binomial(many, few):
     """How many spans with `few` words in the basis lie in one with `many` words."""
-    for given in (many, few):
-        if not is_from_to(given, 0, MOST_LENGTH):
-            raise InvalidNumber(given)
+    need_number(many, 0, MOST_LENGTH)
+    need_number(few, 0, MOST_LENGTH)
     row = [1] + [0] * few
     for _ in range(many):
         row = [1] + [row[at - 1] + (row[at] << at) for at in range(1, few + 1)]

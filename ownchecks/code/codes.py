@@ -1,9 +1,9 @@
 """Codes: spans of words, with a length."""
 
-from ownchecks.base.linear import basis_by, checks_by, is_ascending_below, is_word_of, meet_by
-from ownchecks.base.linear import ones_in, product_bit, remainder_by, span_by, word_at
+from ownchecks.base.linear import basis_by, checks_by, even_with, is_ascending_below, is_word_of, meet_by
+from ownchecks.base.linear import product_bit, remainder_by, span_by, word_at
 from ownchecks.base.spans import need_length, need_words
-from ownchecks.errors import InvalidCode, InvalidOperation, TooMany
+from ownchecks.errors import InvalidCode, InvalidNumber, InvalidOperation, TooMany
 
 MOST_LISTED = 12
 
@@ -49,8 +49,39 @@ def need_codes(one, other):
     """Refuse what is no code, and two codes of unlike lengths."""
     need_code(one)
     need_code(other)
+    need_one_length(one, other)
+
+
+def need_one_length(one, other):
+    """Refuse two codes of unlike lengths."""
     if one.length != other.length:
         raise InvalidOperation("two codes of one length are needed")
+
+
+def need_own(code):
+    """Refuse what is no own code."""
+    if not isinstance(code, Code) or not is_own(code):
+        raise InvalidCode("an own code is needed")
+
+
+def need_own_codes(one, other):
+    """Refuse what is no own code, and two of unlike lengths."""
+    need_own(one)
+    need_own(other)
+    need_one_length(one, other)
+
+
+def need_own_length(length):
+    """Refuse what is no length of own codes."""
+    need_length(length)
+    if length & 1:
+        raise InvalidNumber(length)
+
+
+def need_at_most(many, limit):
+    """Refuse a number above the limit."""
+    if many > limit:
+        raise TooMany(limit)
 
 
 def need_lot(length, lot):
@@ -68,9 +99,8 @@ def dual(code):
 def even_part(code):
     """The code of the words of even weight."""
     need_code(code)
-    odd = [word for word in code.basis if ones_in(word) & 1]
-    even = [word for word in code.basis if not ones_in(word) & 1]
-    return Code(code.length, tuple(even + [odd[0] ^ word for word in odd[1:]]))
+    every = (1 << code.length) - 1
+    return Code(code.length, tuple(even_with(code.basis, every)))
 
 
 def is_own(code):
@@ -132,8 +162,7 @@ def is_outside(code, word):
 def words_of(code):
     """The ascending tuple of all words of the code."""
     need_code(code)
-    if code.dimension > MOST_LISTED:
-        raise TooMany(MOST_LISTED)
+    need_at_most(code.dimension, MOST_LISTED)
     return span_by(code.basis)
 
 

@@ -1,0 +1,1 @@
+"""Neighbours of own codes, and all own codes."""

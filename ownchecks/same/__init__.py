@@ -1,0 +1,1 @@
+"""Codes that are led to one another by exchanges of places."""

@@ -1,0 +1,1 @@
+"""Counts of the words of each weight."""
