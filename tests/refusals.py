@@ -3,7 +3,8 @@
 import itertools
 
 from ownchecks.code.codes import Code
-from ownchecks.errors import InvalidCode, InvalidNumber, InvalidOperation, InvalidWord
+from ownchecks.errors import InvalidCode, InvalidNumber, InvalidOperation, InvalidWord, Refused
+from ownchecks.errors import TooMany, UnknownName
 
 CODE = Code(4, (3, 12))
 NO_INTEGERS = (True, False, None, "", "1", "11", (), (1,), [], [1], {}, {1: 1}, ((1,),), CODE)
@@ -50,6 +51,21 @@ class Refusals:
         self.assertIs(type(caught.exception), error, (call.__name__, arguments))
         if error is InvalidNumber:
             self.assertIs(caught.exception.given, given)
+        if error is UnknownName:
+            self.assertIs(caught.exception.wanted, given)
+
+    def too_many(self, call, arguments, limit):
+        with self.assertRaises(TooMany) as caught:
+            call(*arguments)
+        self.assertIs(type(caught.exception), TooMany)
+        self.assertEqual(caught.exception.limit, limit)
+
+    def refused_for(self, call, arguments, reason):
+        with self.assertRaises(Refused) as caught:
+            call(*arguments)
+        self.assertIs(type(caught.exception), Refused)
+        self.assertEqual(caught.exception.reason, reason)
+        self.assertIs(type(caught.exception.reason), tuple)
 
     def test_the_right_ones_are_taken(self):
         for call, kinds in self.CALLS.items():

@@ -6,18 +6,29 @@ from ownchecks.base.spans import basis_of, binomial, checks_of, free_places, is_
 from ownchecks.base.spans import parts_or_check, places_of, product, remainder_of, span_of, sum_of, weight, word_of
 from ownchecks.code.codes import Code, does_hold, dual, even_part, has_word, is_own, is_own_or_shown
 from ownchecks.code.codes import own_or_shown, part_on, trace_on, words_of
-from ownchecks.errors import InvalidNumber, InvalidOperation, InvalidWord
+from ownchecks.errors import InvalidNumber, InvalidOperation, InvalidWord, Refused, UnknownName
+from ownchecks.kinds.masses import complete_or_lacks, is_complete_or_lacks, is_kinds_of, kind_in, kinds_of, mass_of
+from ownchecks.kinds.masses import masses_of, unlike_or_alike, weighed_counts
+from ownchecks.kinds.tables import distance_table, is_nearest, kinds_apart, nearest, rows_for, table_of, walk_table
+from ownchecks.kinds.tables import worth_numbers, worths
 from ownchecks.near.every import address_of, child, code_at, code_by, codes, count_at, count_of, digit_of, number_of
 from ownchecks.near.every import parent, parents
 from ownchecks.near.neighbours import distance, nearer, neighbour, neighbours, shared, steps_from, way, ways_count
 from ownchecks.same.exchanges import alike_count, backward, climb_of, does_keep, exchange_or_none, exchanged, is_climb
 from ownchecks.same.exchanges import is_exchange, led_word, one_behind, orbits_of, order_of, through, through_two
 from ownchecks.same.exchanges import tower_of
+from ownchecks.same.fours import are_alike_by_fours, bare_places, fingerprint, fours_of, is_laying, pairs_of, pattern
+from ownchecks.same.fours import told_lots, twins_of
+from ownchecks.same.parts import gap_at, is_split_or_word, is_unsplit, side_by_side, split_or_word, summed_at, ties
+from ownchecks.same.parts import unsplit_lots, unsplit_parts
 from ownchecks.weigh.counts import coset_counts, counts_of, dual_counts, dual_or_weight, least_weight, signs
 from ownchecks.weigh.counts import transformed, words_of_weight, zero_lots
 
 PLAIN = Code(8, (3, 12, 48, 192))
 EIGHT = Code(8, (15, 51, 85, 150))
+MIXED, STRIP = Code(10, (3, 60, 204, 340, 600)), Code(12, (15, 60, 240, 960, 3840, 1365))
+SEVENS = Code(14, (15, 51, 85, 1920, 6528, 10880, 16383))
+TWO = (PLAIN, EIGHT)
 
 
 class SpanExamples(unittest.TestCase):
@@ -162,6 +173,94 @@ class ExchangesExamples(unittest.TestCase):
     def test_refused(self):
         with self.assertRaises(InvalidOperation):
             exchanged(PLAIN, (0, 1, 2))
+
+
+class PartsExamples(unittest.TestCase):
+    def test_what_falls_apart(self):
+        self.assertEqual([unsplit_lots(MIXED), unsplit_parts(MIXED)[1] == EIGHT, is_unsplit(STRIP), unsplit_lots(PLAIN)],
+                         [((0, 1), (2, 3, 4, 5, 6, 7, 8, 9)), True, True, ((0, 1), (2, 3), (4, 5), (6, 7))])
+
+    def test_gaps(self):
+        self.assertEqual([gap_at(STRIP, (0, 1, 2, 3)), gap_at(STRIP, (4, 5, 6, 7, 8, 9, 10, 11)), gap_at(EIGHT, (0, 1)),
+                          gap_at(MIXED, (0, 1)), gap_at(EIGHT, (7,))], [2, 2, 2, 0, 1])
+
+    def test_split_or_word(self):
+        self.assertEqual([split_or_word(MIXED, (0, 1)), ties(PLAIN)], [("split",), ((0, 1), (2, 3), (4, 5), (6, 7))])
+        self.assertIs(is_split_or_word(EIGHT, (0, 1), ("word", 150)), True)
+        self.assertIs(is_split_or_word(EIGHT, (0, 1), ("word", 15)), True)
+
+    def test_sums(self):
+        self.assertIs(side_by_side((Code(2, (3,)), EIGHT)) == MIXED, True)
+        self.assertEqual(summed_at(((0, 2), (1, 3)), (Code(2, (3,)),) * 2).basis, (10, 5))
+
+    def test_refused(self):
+        with self.assertRaises(InvalidOperation):
+            split_or_word(PLAIN, (0, 1, 2, 3, 4, 5, 6, 7))
+
+
+class FoursExamples(unittest.TestCase):
+    def test_fingerprints(self):
+        self.assertEqual([pairs_of(MIXED), len(fours_of(MIXED)), told_lots(MIXED)[0], fingerprint(MIXED),
+                          fingerprint(SEVENS), fingerprint(STRIP), fingerprint(PLAIN)],
+                         [(3,), 14, ("pair", (0, 1)), (("eight", 8), ("pair", 2)), (("seven", 7), ("seven", 7)),
+                          (("strip", 12),), (("pair", 2), ("pair", 2), ("pair", 2), ("pair", 2))])
+
+    def test_told_lots(self):
+        self.assertEqual([told_lots(SEVENS)[1], bare_places(SEVENS), twins_of(STRIP, tuple(range(12))),
+                          pattern("strip", 8).basis, pattern("seven", 7).basis],
+                         [("seven", (7, 8, 9, 10, 11, 12, 13)), (), ((0, 1), (2, 3), (4, 5), (6, 7), (8, 9), (10, 11)),
+                          (195, 51, 15), (85, 51, 15)])
+
+    def test_layings(self):
+        self.assertIs(is_laying(STRIP, tuple(range(12)), (1, 0, 3, 2, 5, 4, 7, 6, 9, 8, 11, 10)), True)
+        self.assertIs(is_laying(STRIP, tuple(range(12)), (0, 2, 1, 3, 4, 5, 6, 7, 8, 9, 10, 11)), False)
+        self.assertIs(are_alike_by_fours(EIGHT, PLAIN), False)
+
+    def test_refused(self):
+        with self.assertRaises(UnknownName) as caught:
+            pattern("nine", 9)
+        self.assertEqual(caught.exception.wanted, "nine")
+
+
+class MassesExamples(unittest.TestCase):
+    def test_masses(self):
+        self.assertEqual([mass_of(PLAIN), mass_of(EIGHT), masses_of((EIGHT, PLAIN)), complete_or_lacks((PLAIN, EIGHT)),
+                          complete_or_lacks((PLAIN,))[0]], [105, 30, (30, 105), ("complete", (105, 30)), "lacks"])
+
+    def test_kinds(self):
+        self.assertEqual([weighed_counts((PLAIN, EIGHT)), kind_in((PLAIN, EIGHT), EIGHT), kind_in((PLAIN,), EIGHT),
+                          unlike_or_alike((PLAIN, EIGHT)), len(kinds_of(12))],
+                         [(135, 0, 420, 0, 1050, 0, 420, 0, 135), 1, None, ("unlike",), 3])
+
+    def test_judged(self):
+        self.assertIs(is_complete_or_lacks((PLAIN,), ("lacks", EIGHT)), True)
+        self.assertIs(is_complete_or_lacks((PLAIN,), ("lacks", PLAIN)), False)
+        self.assertIs(is_kinds_of(8, (EIGHT, PLAIN)), True)
+        self.assertIs(is_kinds_of(8, (EIGHT,)), False)
+
+    def test_refused(self):
+        with self.assertRaises(Refused) as caught:
+            masses_of((PLAIN, EIGHT, PLAIN))
+        self.assertEqual(caught.exception.reason, ("alike", 0, 2))
+
+
+class TablesExamples(unittest.TestCase):
+    def test_tables(self):
+        self.assertEqual([table_of(TWO), distance_table(TWO, 2), distance_table(TWO, 3), walk_table(TWO, 2), worths(8),
+                          worth_numbers(TWO)],
+                         [((12, 2), (7, 7)), ((44, 12), (42, 14)), ((48, 16), (56, 8)), ((158, 38), (133, 63)),
+                          (14, 5, -1, -7), (1, 1, 0, 0)])
+
+    def test_rows_and_nearest(self):
+        self.assertEqual([rows_for(TWO, 0), rows_for(TWO, 1), kinds_apart(TWO, 0, 1)], [((7, 2),), ((1, -1),), 1])
+        self.assertIs(is_nearest(TWO, 0, 1, EIGHT), True)
+        self.assertIs(is_nearest(TWO, 1, 0, EIGHT), False)
+        self.assertIs(nearest(TWO, 0, 0) == PLAIN, True)
+
+    def test_refused(self):
+        with self.assertRaises(Refused) as caught:
+            table_of((PLAIN,))
+        self.assertEqual(caught.exception.reason, ("lacks",))
 
 
 if __name__ == "__main__":

@@ -13,16 +13,9 @@ from ownchecks.same.exchanges import is_exchange_or_none, led_word, one_behind, 
 from ownchecks.same.exchanges import through_two
 from ownchecks.weigh.counts import counts_of
 from tests import kinds, naive
-from tests.kinds import EIGHT, LONG_STRIP, MIXED, PAIR, PLAIN, SEVENS, SIXTEEN, STRIP, plain, told
+from tests.kinds import EIGHT, LONG_STRIP, MIXED, PAIR, PLAIN, SEVENS, SIXTEEN, STRIP, mixed_up, plain, told
 
 LENGTHS = (2, 4, 6, 8)
-
-
-def mixed_up(length, source):
-    """Any exchange of so many places."""
-    exchange = list(range(length))
-    source.shuffle(exchange)
-    return tuple(exchange)
 
 
 class Exchanges(unittest.TestCase):

@@ -6,8 +6,9 @@ import unittest
 from ownchecks.base import spans
 from ownchecks.code import codes
 from ownchecks.code.codes import Code
+from ownchecks.kinds import masses, tables
 from ownchecks.near import every, neighbours
-from ownchecks.same import exchanges
+from ownchecks.same import exchanges, fours, parts
 from ownchecks.weigh import counts
 
 SPANS = {
@@ -92,8 +93,55 @@ EXCHANGES = {
     "through": ["code", "place"],
     "through_two": ["code", "place", "other"],
 }
+PARTS = {
+    "gap_at": ["code", "lot"],
+    "split_or_word": ["code", "lot"],
+    "is_split_or_word": ["code", "lot", "value"],
+    "ties": ["code"],
+    "unsplit_lots": ["code"],
+    "unsplit_parts": ["code"],
+    "is_unsplit": ["code"],
+    "side_by_side": ["codes"],
+    "summed_at": ["lots", "codes"],
+}
+FOURS = {
+    "pairs_of": ["code"],
+    "fours_of": ["code"],
+    "told_lots": ["code"],
+    "bare_places": ["code"],
+    "fingerprint": ["code"],
+    "twins_of": ["code", "lot"],
+    "pattern": ["kind", "many"],
+    "laying": ["code", "lot"],
+    "is_laying": ["code", "lot", "value"],
+    "are_alike_by_fours": ["one", "other"],
+}
+MASSES = {
+    "is_list": ["value"],
+    "mass_of": ["code"],
+    "unlike_or_alike": ["codes"],
+    "is_unlike_or_alike": ["codes", "value"],
+    "masses_of": ["codes"],
+    "complete_or_lacks": ["codes"],
+    "is_complete_or_lacks": ["codes", "value"],
+    "weighed_counts": ["codes"],
+    "kind_in": ["codes", "code"],
+    "kinds_of": ["length"],
+    "is_kinds_of": ["length", "value"],
+}
+TABLES = {
+    "table_of": ["codes"],
+    "distance_table": ["codes", "far"],
+    "walk_table": ["codes", "steps"],
+    "worths": ["length"],
+    "worth_numbers": ["codes"],
+    "rows_for": ["codes", "place"],
+    "kinds_apart": ["codes", "one", "other"],
+    "nearest": ["codes", "one", "other"],
+    "is_nearest": ["codes", "one", "other", "value"],
+}
 MODULES = ((spans, SPANS), (codes, CODES), (counts, COUNTS), (neighbours, NEIGHBOURS), (every, EVERY),
-           (exchanges, EXCHANGES))
+           (exchanges, EXCHANGES), (parts, PARTS), (fours, FOURS), (masses, MASSES), (tables, TABLES))
 
 
 class Interface(unittest.TestCase):
@@ -111,6 +159,8 @@ class Interface(unittest.TestCase):
     def test_constants(self):
         self.assertEqual([spans.MOST_LENGTH, spans.MOST_WORDS, spans.MOST_SPANNED, codes.MOST_LISTED], [24, 64, 12, 12])
         self.assertEqual([counts.MOST_WORDS, exchanges.MOST_LENGTH], [4096, 16])
+        self.assertEqual([masses.MOST_LENGTH, masses.MOST_CODES, tables.MOST_STEPS], [14, 8, 60])
+        self.assertEqual(fours.KINDS, ("eight", "pair", "seven", "strip"))
 
     def test_class(self):
         self.assertTrue(inspect.isclass(Code))
@@ -158,6 +208,30 @@ class Interface(unittest.TestCase):
                        exchanges.exchanged(own, (1, 2, 3, 0))):
             self.assertIs(type(answer), Code)
         self.assertTrue(inspect.isgenerator(every.codes(4)))
+
+    def test_kinds_of_answers_about_kinds(self):
+        own, other = Code(4, (3, 12)), Code(4, (5, 10))
+        for answer in (parts.gap_at(own, (0,)), masses.mass_of(own), masses.kind_in((own,), other),
+                       tables.kinds_apart((own,), 0, 0)):
+            self.assertIs(type(answer), int)
+        for answer in (parts.split_or_word(own, (0, 1)), parts.split_or_word(own, (0, 2)), parts.ties(own),
+                       parts.ties(own)[0], parts.unsplit_lots(own), parts.unsplit_lots(own)[0],
+                       parts.unsplit_parts(own), fours.pairs_of(own), fours.fours_of(own), fours.told_lots(own),
+                       fours.told_lots(own)[0], fours.told_lots(own)[0][1], fours.bare_places(own),
+                       fours.fingerprint(own), fours.fingerprint(own)[0], fours.laying(own, (0, 1)),
+                       masses.unlike_or_alike((own,)), masses.unlike_or_alike((own, other)),
+                       masses.unlike_or_alike((own, other))[3], masses.masses_of((own,)),
+                       masses.complete_or_lacks((own,)), masses.complete_or_lacks((own,))[1],
+                       masses.weighed_counts((own,)), masses.kinds_of(4), tables.table_of((own,)),
+                       tables.table_of((own,))[0], tables.distance_table((own,), 1),
+                       tables.distance_table((own,), 1)[0], tables.walk_table((own,), 2),
+                       tables.walk_table((own,), 0)[0], tables.worths(4), tables.worth_numbers((own,)),
+                       tables.rows_for((own,), 0), tables.rows_for((own,), 0)[0]):
+            self.assertIs(type(answer), tuple)
+        for answer in (parts.unsplit_parts(own)[0], parts.side_by_side((own,)), parts.summed_at(((0, 1, 2, 3),), (own,)),
+                       fours.pattern("strip", 4), masses.complete_or_lacks((Code(8, (15, 51, 85, 150)),))[1],
+                       masses.kinds_of(4)[0], tables.nearest((own,), 0, 0)):
+            self.assertIs(type(answer), Code)
 
 
 if __name__ == "__main__":

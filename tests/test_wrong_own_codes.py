@@ -4,7 +4,7 @@ import itertools
 import unittest
 
 from ownchecks.code.codes import Code
-from ownchecks.errors import InvalidCode, InvalidCounts, InvalidNumber, InvalidOperation, InvalidWord, TooMany
+from ownchecks.errors import InvalidCode, InvalidCounts, InvalidNumber, InvalidOperation, InvalidWord
 from ownchecks.near import every, neighbours
 from ownchecks.same import exchanges
 from ownchecks.weigh import counts
@@ -152,12 +152,6 @@ class WrongOwnCodes(Refusals, unittest.TestCase):
         many = Code(13, tuple(2 ** place for place in range(13)))
         self.refused(counts.words_of_weight, (many, 14), InvalidNumber, 14)
         self.too_many(counts.words_of_weight, (many, 13), 4096)
-
-    def too_many(self, call, arguments, limit):
-        with self.assertRaises(TooMany) as caught:
-            call(*arguments)
-        self.assertIs(type(caught.exception), TooMany)
-        self.assertEqual(caught.exception.limit, limit)
 
     def test_what_is_not_allowed_comes_behind_what_is_invalid(self):
         pair = Code(2, (3,))

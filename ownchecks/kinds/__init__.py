@@ -1,0 +1,1 @@
+"""Kinds of own codes: lists of them, masses and tables."""
