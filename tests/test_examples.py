@@ -7,6 +7,12 @@ from ownchecks.base.spans import parts_or_check, places_of, product, remainder_o
 from ownchecks.code.codes import Code, does_hold, dual, even_part, has_word, is_own, is_own_or_shown
 from ownchecks.code.codes import own_or_shown, part_on, trace_on, words_of
 from ownchecks.errors import InvalidNumber, InvalidOperation, InvalidWord, Refused, UnknownName
+from ownchecks.four.families import are_one_family, count_by_fours, count_by_fours_at, eights, fours_neighbour
+from ownchecks.four.families import fours_or_word, half, is_by_fours, is_fours_or_word, is_way_by_fours
+from ownchecks.four.families import neighbours_by_fours, way_by_fours
+from ownchecks.four.shades import beside, counts_or_weight, is_counts_or_weight, raised, shadow_counts
+from ownchecks.four.shadows import is_shadow_or_word, least_shadow, quarter_of, quarter_products, quarters, shadow
+from ownchecks.four.shadows import shadow_or_word
 from ownchecks.kinds.masses import complete_or_lacks, is_complete_or_lacks, is_kinds_of, kind_in, kinds_of, mass_of
 from ownchecks.kinds.masses import masses_of, unlike_or_alike, weighed_counts
 from ownchecks.kinds.tables import distance_table, is_nearest, kinds_apart, nearest, rows_for, table_of, walk_table
@@ -23,12 +29,15 @@ from ownchecks.same.parts import gap_at, is_split_or_word, is_unsplit, side_by_s
 from ownchecks.same.parts import unsplit_lots, unsplit_parts
 from ownchecks.weigh.counts import coset_counts, counts_of, dual_counts, dual_or_weight, least_weight, signs
 from ownchecks.weigh.counts import transformed, words_of_weight, zero_lots
+from ownchecks.weigh.two import barest, four_barest, four_parts_or_weight, four_row, parts_of, parts_or_weight, row_by
+from ownchecks.weigh.two import row_by_light, two_row
 
 PLAIN = Code(8, (3, 12, 48, 192))
 EIGHT = Code(8, (15, 51, 85, 150))
 MIXED, STRIP = Code(10, (3, 60, 204, 340, 600)), Code(12, (15, 60, 240, 960, 3840, 1365))
 SEVENS = Code(14, (15, 51, 85, 1920, 6528, 10880, 16383))
 TWO = (PLAIN, EIGHT)
+OTHER = fours_neighbour(EIGHT, 3)
 
 
 class SpanExamples(unittest.TestCase):
@@ -261,6 +270,93 @@ class TablesExamples(unittest.TestCase):
         with self.assertRaises(Refused) as caught:
             table_of((PLAIN,))
         self.assertEqual(caught.exception.reason, ("lacks",))
+
+
+class TwoExamples(unittest.TestCase):
+    def test_rows(self):
+        self.assertEqual([two_row(8, 0), two_row(8, 1), four_row(8, 0), row_by(8, (1, -4))],
+                         [(1, 0, 4, 0, 6, 0, 4, 0, 1), (0, 0, 1, 0, -2, 0, 1, 0, 0), (1, 0, 0, 0, 14, 0, 0, 0, 1),
+                          (1, 0, 0, 0, 14, 0, 0, 0, 1)])
+
+    def test_parts(self):
+        self.assertEqual([parts_or_weight((1, 0, 1)), parts_or_weight((1, 1, 1)), parts_or_weight((1, 0, 2)),
+                          parts_of(EIGHT), four_parts_or_weight(counts_of(EIGHT)), four_parts_or_weight(counts_of(PLAIN))],
+                         [("parts", (1,)), ("odd", 1), ("unlike", 0), (1, -4), ("parts", (1,)), ("weight", 2)])
+
+    def test_light(self):
+        self.assertIs(row_by_light(8, (1, 4)) == counts_of(PLAIN), True)
+        self.assertEqual([barest(10), four_barest(24)[8], barest(16)[4:7]],
+                         [(1, 0, 0, 0, 15, 0, 15, 0, 0, 0, 1), 759, (0, 0, 112)])
+
+    def test_refused(self):
+        with self.assertRaises(InvalidOperation):
+            parts_or_weight((1, 0, 0, 1))
+
+
+class FamiliesExamples(unittest.TestCase):
+    def test_by_fours(self):
+        self.assertEqual([is_by_fours(PLAIN), is_by_fours(EIGHT), fours_or_word(EIGHT),
+                          is_fours_or_word(PLAIN, ("word", 63)), half(PLAIN).basis],
+                         [False, True, ("fours",), True, (195, 51, 15)])
+
+    def test_how_many(self):
+        self.assertEqual([count_by_fours(8), count_by_fours(16), count_by_fours(12),
+                          [count_by_fours_at(8, distance) for distance in range(5)], eights(8) == EIGHT],
+                         [30, 9845550, 0, [1, 7, 14, 8, 0], True])
+
+    def test_ways(self):
+        self.assertEqual([OTHER.basis, len(neighbours_by_fours(EIGHT)), are_one_family(EIGHT, OTHER),
+                          len(way_by_fours(EIGHT, OTHER)), is_way_by_fours(EIGHT, EIGHT, (EIGHT, OTHER, EIGHT))],
+                         [(149, 86, 51, 15), 7, False, 2, True])
+
+    def test_refused(self):
+        with self.assertRaises(Refused) as caught:
+            eights(12)
+        self.assertEqual(caught.exception.reason, ("length",))
+
+
+class ShadowsExamples(unittest.TestCase):
+    def test_shadows(self):
+        self.assertEqual([least_shadow(PLAIN), least_shadow(EIGHT), len(shadow(PLAIN)), shadow(PLAIN)[-1],
+                          shadow_or_word(PLAIN, 90), shadow_or_word(PLAIN, 1)[0]], [85, 0, 16, 170, ("shadow",), "word"])
+
+    def test_quarters(self):
+        self.assertEqual([quarters(PLAIN), quarter_of(PLAIN, 170), quarter_of(PLAIN, 169), quarter_of(PLAIN, 1),
+                          quarter_products(8)],
+                         [(0, 85, 3, 86), 1, 3, None, ((0, 0, 0, 0), (0, 0, 1, 1), (0, 1, 0, 1), (0, 1, 1, 0))])
+
+    def test_judged(self):
+        self.assertIs(is_shadow_or_word(PLAIN, 1, ("word", 12)), True)
+        self.assertIs(is_shadow_or_word(PLAIN, 1, ("word", 3)), False)
+        self.assertIs(is_shadow_or_word(PLAIN, 85, ("shadow",)), True)
+
+    def test_refused(self):
+        with self.assertRaises(Refused) as caught:
+            quarters(EIGHT)
+        self.assertEqual(caught.exception.reason, ("fours",))
+
+
+class ShadesExamples(unittest.TestCase):
+    def test_counts(self):
+        self.assertEqual([shadow_counts(PLAIN), shadow_counts(EIGHT)],
+                         [(0, 0, 0, 0, 16, 0, 0, 0, 0), (1, 0, 0, 0, 14, 0, 0, 0, 1)])
+        self.assertIs(counts_or_weight(8, (1, 0)) == ("counts", shadow_counts(PLAIN)), True)
+        self.assertIs(counts_or_weight(8, (1, -4)) == ("counts", shadow_counts(EIGHT)), True)
+
+    def test_weights(self):
+        self.assertEqual([counts_or_weight(8, (1, -3)), counts_or_weight(8, (1, -36)), counts_or_weight(2, (1,))],
+                         [("weight", 0), ("weight", 4), ("counts", (0, 2, 0))])
+        self.assertIs(is_counts_or_weight(8, (1, -3), ("weight", 4)), False)
+
+    def test_beside(self):
+        self.assertIs(beside(PLAIN) == (OTHER, EIGHT), True)
+        self.assertIs(raised(Code(6, (3, 12, 48))) == beside(PLAIN), True)
+        self.assertEqual([one.basis for one in beside(Code(4, (3, 12)))], [(9, 6), (10, 5)])
+
+    def test_refused(self):
+        with self.assertRaises(Refused) as caught:
+            beside(Code(6, (3, 12, 48)))
+        self.assertEqual(caught.exception.reason, ("length",))
 
 
 if __name__ == "__main__":

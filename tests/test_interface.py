@@ -6,10 +6,11 @@ import unittest
 from ownchecks.base import spans
 from ownchecks.code import codes
 from ownchecks.code.codes import Code
+from ownchecks.four import families, shades, shadows
 from ownchecks.kinds import masses, tables
 from ownchecks.near import every, neighbours
 from ownchecks.same import exchanges, fours, parts
-from ownchecks.weigh import counts
+from ownchecks.weigh import counts, two
 
 SPANS = {
     "is_word": ["length", "value"],
@@ -140,8 +141,52 @@ TABLES = {
     "nearest": ["codes", "one", "other"],
     "is_nearest": ["codes", "one", "other", "value"],
 }
+TWO = {
+    "two_row": ["length", "j"],
+    "four_row": ["length", "j"],
+    "row_by": ["length", "parts"],
+    "four_row_by": ["length", "parts"],
+    "parts_or_weight": ["counts"],
+    "four_parts_or_weight": ["counts"],
+    "parts_of": ["code"],
+    "row_by_light": ["length", "light"],
+    "four_row_by_light": ["length", "light"],
+    "barest": ["length"],
+    "four_barest": ["length"],
+}
+FAMILIES = {
+    "is_by_fours": ["code"],
+    "fours_or_word": ["code"],
+    "is_fours_or_word": ["code", "value"],
+    "half": ["code"],
+    "count_by_fours": ["length"],
+    "count_by_fours_at": ["length", "distance"],
+    "eights": ["length"],
+    "fours_neighbour": ["code", "word"],
+    "neighbours_by_fours": ["code"],
+    "are_one_family": ["one", "other"],
+    "way_by_fours": ["one", "other"],
+    "is_way_by_fours": ["one", "other", "value"],
+}
+SHADOWS = {
+    "shadow_or_word": ["code", "word"],
+    "is_shadow_or_word": ["code", "word", "value"],
+    "least_shadow": ["code"],
+    "shadow": ["code"],
+    "quarters": ["code"],
+    "quarter_of": ["code", "word"],
+    "quarter_products": ["length"],
+}
+SHADES = {
+    "shadow_counts": ["code"],
+    "counts_or_weight": ["length", "parts"],
+    "is_counts_or_weight": ["length", "parts", "value"],
+    "beside": ["code"],
+    "raised": ["code"],
+}
 MODULES = ((spans, SPANS), (codes, CODES), (counts, COUNTS), (neighbours, NEIGHBOURS), (every, EVERY),
-           (exchanges, EXCHANGES), (parts, PARTS), (fours, FOURS), (masses, MASSES), (tables, TABLES))
+           (exchanges, EXCHANGES), (parts, PARTS), (fours, FOURS), (masses, MASSES), (tables, TABLES),
+           (two, TWO), (families, FAMILIES), (shadows, SHADOWS), (shades, SHADES))
 
 
 class Interface(unittest.TestCase):
@@ -231,6 +276,26 @@ class Interface(unittest.TestCase):
         for answer in (parts.unsplit_parts(own)[0], parts.side_by_side((own,)), parts.summed_at(((0, 1, 2, 3),), (own,)),
                        fours.pattern("strip", 4), masses.complete_or_lacks((Code(8, (15, 51, 85, 150)),))[1],
                        masses.kinds_of(4)[0], tables.nearest((own,), 0, 0)):
+            self.assertIs(type(answer), Code)
+
+    def test_kinds_of_answers_about_fours(self):
+        own, eight = Code(4, (3, 12)), Code(8, (15, 51, 85, 150))
+        other = families.fours_neighbour(eight, 3)
+        for answer in (families.count_by_fours(8), families.count_by_fours(7), families.count_by_fours_at(8, 2),
+                       families.count_by_fours_at(4, 2), shadows.least_shadow(own), shadows.quarter_of(own, 3)):
+            self.assertIs(type(answer), int)
+        for answer in (two.two_row(4, 0), two.four_row(8, 0), two.row_by(4, (1,)), two.four_row_by(8, (1,)),
+                       two.parts_or_weight((1, 0, 1)), two.parts_or_weight((1, 0, 1))[1], two.parts_of(own),
+                       two.four_parts_or_weight((0,) * 9)[1], two.row_by_light(4, (1,)), two.four_row_by_light(8, (1,)),
+                       two.barest(4), two.four_barest(8), families.fours_or_word(own), families.fours_or_word(eight),
+                       families.neighbours_by_fours(eight), families.way_by_fours(eight, other),
+                       shadows.shadow_or_word(own, 1), shadows.shadow_or_word(own, 5), shadows.shadow(own),
+                       shadows.quarters(own), shadows.quarter_products(4), shadows.quarter_products(4)[1],
+                       shades.shadow_counts(own), shades.counts_or_weight(4, (1,)), shades.counts_or_weight(4, (1,))[1],
+                       shades.beside(own), shades.raised(own)):
+            self.assertIs(type(answer), tuple)
+        for answer in (families.half(own), families.eights(8), other, families.neighbours_by_fours(eight)[0],
+                       families.way_by_fours(eight, other)[1], shades.beside(own)[0], shades.raised(own)[1]):
             self.assertIs(type(answer), Code)
 
 

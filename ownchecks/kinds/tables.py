@@ -11,7 +11,7 @@ MOST_STEPS = 60
 
 
 def need_all_kinds(codes):
-    """Refuse a list in which codes are alike, and one that lacks a kind."""
+    """Refuse what is no list, one in which codes are alike, and one that lacks a kind."""
     if not has_all_kinds(codes, masses_of(codes)):
         raise Refused(("lacks",))
 
@@ -136,7 +136,6 @@ def less(row, times, other):
 
 def table_of(codes):
     """The table: how many neighbours of the kind of each code each of the codes has."""
-    need_list(codes)
     need_all_kinds(codes)
     return as_rows(table_by(codes))
 
@@ -169,7 +168,6 @@ def worths(length):
 
 def worth_numbers(codes):
     """For each worth the number of free rows that the table leads to so many times themselves."""
-    need_list(codes)
     need_all_kinds(codes)
     table = table_by(codes)
     return tuple([len(rows_by(table, worth)) for worth in worths_by(codes[0].length)])

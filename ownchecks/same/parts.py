@@ -46,14 +46,14 @@ def cut_out(basis, lot):
 
 
 def tied_to(basis, place):
-    """The places that are tied to the place."""
+    """The places that are tied to the place, and this one itself if it is a head."""
     tied = 0
     for row in basis:
         if head_place(row) == place:
             tied |= row
         elif row >> place & 1:
             tied |= 1 << head_place(row)
-    return [other for other in places_in(tied) if other != place]
+    return places_in(tied)
 
 
 def hanging_with(basis, place):

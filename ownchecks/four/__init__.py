@@ -1,0 +1,1 @@
+"""Codes by fours, halves and shadows."""
