@@ -105,6 +105,28 @@ def index_lots(many):
         yield from itertools.combinations(range(many), some)
 
 
+def mask(lot):
+    """The word with 1 just at the places of the lot."""
+    return sum(2 ** place for place in lot)
+
+
+def rest_of(length, lot):
+    """The places that are not in the lot."""
+    return tuple(place for place in range(length) if place not in lot)
+
+
+def partitions(places):
+    """All ways to part the places into lots."""
+    if not places:
+        yield ()
+        return
+    for many in range(len(places)):
+        for more in itertools.combinations(places[1:], many):
+            lot = (places[0],) + more
+            for others in partitions(tuple(place for place in places if place not in lot)):
+                yield (lot,) + others
+
+
 def cut(word, lot):
     return int("0" + "".join(str(word >> place & 1) for place in reversed(lot)), 2)
 
@@ -159,6 +181,15 @@ def transformed(row):
     length = len(row) - 1
     return tuple(sum(number * power_row(length, other)[weight] for other, number in enumerate(row))
                  for weight in range(length + 1))
+
+
+def times(row, other):
+    """The product of two polynomials."""
+    out = [0] * (len(row) + len(other) - 1)
+    for at, number in enumerate(row):
+        for then, more in enumerate(other):
+            out[at + then] += number * more
+    return tuple(out)
 
 
 def led(exchange, word):

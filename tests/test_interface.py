@@ -8,9 +8,9 @@ from ownchecks.code import codes
 from ownchecks.code.codes import Code
 from ownchecks.four import families, shades, shadows
 from ownchecks.kinds import masses, tables
-from ownchecks.near import every, neighbours
-from ownchecks.same import exchanges, fours, parts
-from ownchecks.weigh import counts, two
+from ownchecks.near import averages, every, neighbours, within
+from ownchecks.same import exchanges, fours, glue, parts
+from ownchecks.weigh import counts, designs, two
 
 SPANS = {
     "is_word": ["length", "value"],
@@ -184,9 +184,50 @@ SHADES = {
     "beside": ["code"],
     "raised": ["code"],
 }
+GLUE = {
+    "parts_span": ["code", "lots"],
+    "glue": ["code", "lots"],
+    "glue_dimension": ["code", "lots"],
+    "parted_word": ["code", "lots", "word"],
+    "mate_or_odd": ["code", "lot", "word"],
+    "is_mate_or_odd": ["code", "lot", "word", "value"],
+    "least_mate": ["code", "lot", "word"],
+    "put_together": ["length", "lots", "within", "glued"],
+    "is_put_together": ["length", "lots", "within", "glued", "value"],
+}
+AVERAGES = {
+    "count_with": ["length", "word"],
+    "mean_counts": ["length"],
+    "lighter": ["code", "bound"],
+    "lighter_in_all": ["length", "bound"],
+    "does_clear": ["length", "bound"],
+    "neighbour_sum": ["code", "bound"],
+    "clearing": ["code", "bound"],
+    "is_clearing": ["code", "bound", "value"],
+}
+WITHIN = {
+    "around_or_odd": ["inner"],
+    "is_around_or_odd": ["inner", "value"],
+    "first_around": ["inner"],
+    "count_around": ["inner"],
+    "codes_around": ["inner"],
+    "is_between": ["one", "other", "value"],
+    "between_by": ["one", "other", "inner"],
+    "count_between": ["one", "other", "steps"],
+    "codes_between": ["one", "other"],
+}
+DESIGNS = {
+    "times_at": ["code", "weight", "lot"],
+    "spread_or_lots": ["code", "weight", "t"],
+    "is_spread_or_lots": ["code", "weight", "t", "value"],
+    "most_spread": ["code", "weight"],
+    "is_sure": ["code", "t"],
+    "meetings": ["code", "weight", "word"],
+}
 MODULES = ((spans, SPANS), (codes, CODES), (counts, COUNTS), (neighbours, NEIGHBOURS), (every, EVERY),
            (exchanges, EXCHANGES), (parts, PARTS), (fours, FOURS), (masses, MASSES), (tables, TABLES),
-           (two, TWO), (families, FAMILIES), (shadows, SHADOWS), (shades, SHADES))
+           (two, TWO), (families, FAMILIES), (shadows, SHADOWS), (shades, SHADES),
+           (glue, GLUE), (averages, AVERAGES), (within, WITHIN), (designs, DESIGNS))
 
 
 class Interface(unittest.TestCase):
@@ -205,6 +246,7 @@ class Interface(unittest.TestCase):
         self.assertEqual([spans.MOST_LENGTH, spans.MOST_WORDS, spans.MOST_SPANNED, codes.MOST_LISTED], [24, 64, 12, 12])
         self.assertEqual([counts.MOST_WORDS, exchanges.MOST_LENGTH], [4096, 16])
         self.assertEqual([masses.MOST_LENGTH, masses.MOST_CODES, tables.MOST_STEPS], [14, 8, 60])
+        self.assertEqual([within.MOST_LISTED, designs.MOST_TOGETHER], [135, 5])
         self.assertEqual(fours.KINDS, ("eight", "pair", "seven", "strip"))
 
     def test_class(self):
@@ -296,6 +338,26 @@ class Interface(unittest.TestCase):
             self.assertIs(type(answer), tuple)
         for answer in (families.half(own), families.eights(8), other, families.neighbours_by_fours(eight)[0],
                        families.way_by_fours(eight, other)[1], shades.beside(own)[0], shades.raised(own)[1]):
+            self.assertIs(type(answer), Code)
+
+    def test_kinds_of_answers_about_glue_and_means(self):
+        own, eight, lots = Code(4, (3, 12)), Code(8, (15, 51, 85, 150)), ((0, 2), (1, 3))
+        for answer in (glue.glue_dimension(own, lots), glue.least_mate(own, (0, 2), 1), averages.count_with(4, 3),
+                       averages.lighter(own, 4), averages.lighter_in_all(4, 4), averages.neighbour_sum(own, 4),
+                       within.count_around(own), within.count_around(Code(4, (1,))), within.count_between(own, own, 0),
+                       designs.times_at(own, 2, (0,)), designs.most_spread(own, 2)):
+            self.assertIs(type(answer), int)
+        for answer in (glue.parts_span(own, lots), glue.glue(own, lots), glue.parted_word(own, lots, 3),
+                       glue.mate_or_odd(own, (0, 2), 1), glue.put_together(4, lots, (), ()),
+                       averages.mean_counts(4), averages.mean_counts(4)[2], averages.clearing(own, 4),
+                       averages.clearing(own, 4)[1], within.around_or_odd(own), within.codes_around(own),
+                       within.codes_around(Code(4, (1,))), within.codes_between(own, own), designs.meetings(own, 2, 1),
+                       designs.spread_or_lots(own, 2, 1), designs.spread_or_lots(own, 2, 2),
+                       designs.spread_or_lots(own, 2, 2)[1]):
+            self.assertIs(type(answer), tuple)
+        for answer in (glue.put_together(4, lots, (), (3, 12))[1], averages.clearing(eight, 4)[1][0],
+                       within.around_or_odd(own)[1], within.first_around(own), within.codes_around(own)[0],
+                       within.between_by(own, own, own), within.codes_between(own, own)[0]):
             self.assertIs(type(answer), Code)
 
 

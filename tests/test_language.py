@@ -17,7 +17,7 @@ isupper items join keys ljust lower lstrip partition pop remove replace reverse 
 setdefault split splitlines startswith strip update upper values zfill bit_length add discard""".split())
 BARRED = set("""typing typing_extensions enum Enum Generic Protocol ABC namedtuple NamedTuple TypedDict dataclass
 register mro elements open input law version_info eval exec globals locals vars compile os gc id hash sys""".split())
-LIBRARY = {"gcd", "lcm", "isqrt", "comb", "perm", "factorial"}
+LIBRARY = {"math": {"gcd", "lcm", "isqrt", "comb", "perm", "factorial"}, "itertools": {"combinations", "permutations"}}
 UNUSED = (ast.Global, ast.AsyncFunctionDef, ast.Await, ast.Set, ast.GeneratorExp, ast.Div, ast.MatMult, ast.Import,
           ast.AnnAssign)
 
@@ -64,8 +64,8 @@ class Language(unittest.TestCase):
     def test_imports_name_the_defining_file(self):
         for path, tree in trees():
             for node in ast.walk(tree):
-                if isinstance(node, ast.ImportFrom) and node.module == "math":
-                    self.assertLessEqual({name.name for name in node.names}, LIBRARY)
+                if isinstance(node, ast.ImportFrom) and node.module in LIBRARY:
+                    self.assertLessEqual({name.name for name in node.names}, LIBRARY[node.module])
                 elif isinstance(node, ast.ImportFrom):
                     source = FOLDER.parent / (node.module.replace(".", "/") + ".py")
                     self.assertTrue(source.is_file(), (path, node.module))
@@ -84,7 +84,7 @@ class Language(unittest.TestCase):
 
     def test_names_of_the_library_are_only_called(self):
         for path, tree in trees():
-            told = [name.name for node in ast.walk(tree) if isinstance(node, ast.ImportFrom) and node.module == "math"
+            told = [name.name for node in ast.walk(tree) if isinstance(node, ast.ImportFrom) and node.module in LIBRARY
                     for name in node.names]
             named = [node for node in ast.walk(tree) if isinstance(node, ast.Name) and node.id in told]
             called = [node.func for node in ast.walk(tree) if isinstance(node, ast.Call)]

@@ -16,31 +16,15 @@ from ownchecks.weigh.counts import counts_of, least_weight
 from tests import naive
 from tests.kinds import EIGHT, GOLAY, LISTS, MIXED, PAIR, PLAIN, SEVENS, SIXTEEN, STRIP, beside, mixed_up, plain, some
 from tests.kinds import told
+from tests.naive import mask, partitions, rest_of, times
 
 LENGTHS = (2, 4, 6, 8)
 LONGER = tuple(some(71, range(10, 26, 2), 3)) + SIXTEEN + LISTS[14] + LISTS[12] + (GOLAY, plain(24))
 
 
-def mask(lot):
-    return sum(2 ** place for place in lot)
-
-
-def rest_of(length, lot):
-    return tuple(place for place in range(length) if place not in lot)
-
-
 def parted(span, lot):
     """The words that leave the code when all ones beside the lot are left out."""
     return {word for word in span if word & mask(lot) not in span}
-
-
-def times(row, other):
-    """The product of two polynomials."""
-    out = [0] * (len(row) + len(other) - 1)
-    for at, number in enumerate(row):
-        for then, more in enumerate(other):
-            out[at + then] += number * more
-    return tuple(out)
 
 
 @functools.lru_cache(None)
@@ -53,18 +37,6 @@ def told_by_words(length, span):
     """The least lots along which nothing is parted, one for each place, and the ones of unlike places once."""
     whole = [lot for lot in naive.lots(length) if not parted(span, lot)]
     return tuple(sorted({min((lot for lot in whole if place in lot), key=len) for place in range(length)}))
-
-
-def partitions(places):
-    """All ways to part the places into lots."""
-    if not places:
-        yield ()
-        return
-    for many in range(len(places)):
-        for more in itertools.combinations(places[1:], many):
-            lot = (places[0],) + more
-            for others in partitions(tuple(place for place in places if place not in lot)):
-                yield (lot,) + others
 
 
 class Gaps(unittest.TestCase):

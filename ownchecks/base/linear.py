@@ -118,6 +118,25 @@ def meet_by(length, one, other):
     return checks_by(length, basis_by(checks_by(length, one) + checks_by(length, other)))
 
 
+def within_by(length, basis, lot):
+    """The basis of the words of the span that have ones only at the places of the lot."""
+    return meet_by(length, basis, basis_by([1 << place for place in lot]))
+
+
+def holds(basis, words):
+    """Whether each of the words is in the span of the basis."""
+    return all([remainder_by(basis, word) == 0 for word in words])
+
+
+def odd_pair(words):
+    """Two of the words, or one of them twice, with an odd product, or None if there are none such."""
+    for one in words:
+        for other in words:
+            if product_bit(one, other):
+                return one, other
+    return None
+
+
 def even_with(rows, word):
     """Words that span those words of the span of the rows that are even with the word."""
     odd = [row for row in rows if product_bit(row, word)]

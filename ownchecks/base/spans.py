@@ -16,6 +16,13 @@ def need_number(given, least, most):
         raise InvalidNumber(given)
 
 
+def need_even(given, least, most):
+    """Refuse what is no even integer from least to most."""
+    need_number(given, least, most)
+    if given & 1:
+        raise InvalidNumber(given)
+
+
 def need_length(length):
     """Refuse what is no length."""
     need_number(length, 1, MOST_LENGTH)

@@ -1,9 +1,9 @@
 """Codes: spans of words, with a length."""
 
-from ownchecks.base.linear import basis_by, checks_by, even_with, is_ascending_below, is_word_of, meet_by
-from ownchecks.base.linear import product_bit, remainder_by, span_by, word_at
-from ownchecks.base.spans import need_length, need_words
-from ownchecks.errors import InvalidCode, InvalidNumber, InvalidOperation, TooMany
+from ownchecks.base.linear import basis_by, checks_by, even_with, holds, is_ascending_below, is_word_of
+from ownchecks.base.linear import odd_pair, product_bit, remainder_by, span_by, within_by, word_at
+from ownchecks.base.spans import MOST_LENGTH, need_even, need_length, need_words
+from ownchecks.errors import InvalidCode, InvalidOperation, TooMany
 
 MOST_LISTED = 12
 
@@ -73,9 +73,7 @@ def need_own_codes(one, other):
 
 def need_own_length(length):
     """Refuse what is no length of own codes."""
-    need_length(length)
-    if length & 1:
-        raise InvalidNumber(length)
+    need_even(length, 2, MOST_LENGTH)
 
 
 def need_at_most(many, limit):
@@ -118,16 +116,15 @@ def has_word(code, value):
 def does_hold(one, other):
     """Whether each word of the other code is in the one."""
     need_codes(one, other)
-    return all([remainder_by(one.basis, word) == 0 for word in other.basis])
+    return holds(one.basis, other.basis)
 
 
 def own_or_shown(code):
     """Whether the code is own, or else what shows that it is not."""
     need_code(code)
-    for one in code.basis:
-        for other in code.basis:
-            if product_bit(one, other):
-                return "odd", one, other
+    pair = odd_pair(code.basis)
+    if pair is not None:
+        return "odd", pair[0], pair[1]
     for word in checks_by(code.length, code.basis):
         if remainder_by(code.basis, word):
             return "outside", word
@@ -175,9 +172,7 @@ def part_on(code, lot):
     """The code of the words that are 0 at all places beside the lot, cut to it."""
     need_code(code)
     need_lot(code.length, lot)
-    within = basis_by([1 << place for place in lot])
-    inside = meet_by(code.length, code.basis, within)
-    return Code(len(lot), tuple([cut(word, lot) for word in inside]))
+    return Code(len(lot), tuple([cut(word, lot) for word in within_by(code.length, code.basis, lot)]))
 
 
 def trace_on(code, lot):

@@ -1,9 +1,9 @@
 """Kinds of own codes, their masses, and when a list of codes has all of them."""
 
 from ownchecks.base.linear import is_from_to, is_integer
-from ownchecks.base.spans import need_number
+from ownchecks.base.spans import need_even
 from ownchecks.code.codes import Code, need_at_most, need_one_length, need_own
-from ownchecks.errors import InvalidNumber, InvalidOperation, Refused
+from ownchecks.errors import InvalidOperation, Refused
 from ownchecks.near.every import code_by, count_of
 from ownchecks.near.neighbours import is_own_of, neighbours
 from ownchecks.same.exchanges import alike_count, exchange_between, is_exchange_of, led_basis
@@ -29,9 +29,7 @@ def need_unlike(codes):
 
 def need_kinds_length(length):
     """Refuse what is no length of lists."""
-    need_number(length, 2, MOST_LENGTH)
-    if length & 1:
-        raise InvalidNumber(length)
+    need_even(length, 2, MOST_LENGTH)
 
 
 def prints_of(codes):
