@@ -1,15 +1,22 @@
-"""The examples of the document, from glue on: what they show is what the program answers."""
+"""The examples of the document, from glue to claims: what they show is what the program answers."""
 
 import unittest
 
+from ownchecks.bench.bench import Bench
 from ownchecks.code.codes import Code
-from ownchecks.errors import InvalidOperation
+from ownchecks.code.cosets import coset_of, farthest, is_leader, leader, leaders, least_weights, nearest, parent_counts
+from ownchecks.code.cosets import products_of, radius, signed_counts, word_with
+from ownchecks.errors import InvalidClaim, InvalidOperation, ParseError, UnknownName
+from ownchecks.judge.claims import answered, is_claim, opposite, takes
 from ownchecks.near.averages import clearing, count_with, does_clear, is_clearing, lighter, lighter_in_all, mean_counts
 from ownchecks.near.averages import neighbour_sum
 from ownchecks.near.within import around_or_odd, between_by, codes_around, codes_between, count_around, count_between
 from ownchecks.near.within import first_around, is_around_or_odd, is_between
+from ownchecks.same.exchanges import exchanged
 from ownchecks.same.glue import glue, glue_dimension, is_mate_or_odd, is_put_together, least_mate, parted_word
 from ownchecks.same.glue import parts_span, put_together
+from ownchecks.text.texts import code_text, counts_text, exchange_text, read_code, read_counts, read_exchange, read_words
+from ownchecks.text.texts import words_text
 from ownchecks.weigh.designs import is_spread_or_lots, is_sure, meetings, most_spread, spread_or_lots, times_at
 from tests.kinds import EIGHT, PLAIN, SEVENS
 
@@ -93,6 +100,88 @@ class DesignsExamples(unittest.TestCase):
     def test_refused(self):
         with self.assertRaises(InvalidOperation):
             times_at(EIGHT, 4, (1, 0))
+
+
+class CosetsExamples(unittest.TestCase):
+    def test_cosets(self):
+        self.assertEqual([coset_of(Code(4, (3, 12)), 5), products_of(EIGHT, 1), word_with(EIGHT, (0, 1, 1, 1))],
+                         [(5, 6, 9, 10), (0, 1, 1, 1), 1])
+        self.assertEqual([leader(EIGHT, 3), leader(EIGHT, 240), nearest(EIGHT, 3)], [3, 0, (0, 15, 51, 195)])
+        self.assertIs(is_leader(EIGHT, 192), True)
+
+    def test_leaders(self):
+        self.assertEqual([least_weights(EIGHT), least_weights(PLAIN), radius(EIGHT), farthest(EIGHT), farthest(PLAIN),
+                          leaders(Code(4, (3, 12)))], [(1, 8, 7), (1, 4, 6, 4, 1), 2, 3, 85, (0, 1, 4, 5)])
+
+    def test_counts(self):
+        self.assertEqual([signed_counts(EIGHT, 1), signed_counts(EIGHT, 3), parent_counts(EIGHT, 1)],
+                         [(1, 0, 0, 0, 0, 0, 0, 0, -1), (1, 0, 0, 0, -2, 0, 0, 0, 1), (1, 0, 1, 0, 14, 0, 14, 0, 1, 0, 1)])
+
+    def test_refused(self):
+        with self.assertRaises(InvalidOperation):
+            parent_counts(EIGHT, 3)
+
+
+class TextsExamples(unittest.TestCase):
+    def test_written(self):
+        self.assertEqual([code_text(Code(4, (12, 15))), words_text(3, (6, 1, 6)), exchange_text((2, 0, 1)),
+                          counts_text((1, 0, 6, 0, 1))],
+                         ["code 4\n  0011\n  1100\nend\n", "words 3\n  011\n  100\n  011\nend\n", "exchange 2 0 1\n",
+                          "counts 1 0 6 0 1\n"])
+
+    def test_read(self):
+        self.assertEqual([read_code("code 4\n  0011\n  1100\nend\n").basis, read_words("words 2\nend\n"),
+                          read_exchange("exchange 0\n"), read_counts("counts -3 0\n")], [(12, 3), (2, ()), (0,), (-3, 0)])
+
+    def test_refused(self):
+        for call, text, spot in ((read_code, "code 4\n  0011\n  1111\nend\n", 2), (read_words, "words 2\n  10\n", 2),
+                                 (read_exchange, "exchange 1 1\n", 0)):
+            with self.assertRaises(ParseError) as caught:
+                call(text)
+            self.assertEqual(caught.exception.spot, spot)
+
+
+class BenchExamples(unittest.TestCase):
+    def test_one_after_the_other(self):
+        bench = Bench()
+        bench.put("one", PLAIN)
+        bench.put("two", exchanged(PLAIN, (7, 1, 2, 3, 4, 5, 6, 0)))
+        self.assertEqual([bench.ask("one", "two")[0], bench.apart("one", "two"), bench.known("two", "one"), str(bench),
+                          bench.names], ["alike", 1, None, "bench of 2 codes, 2 edits", ("one", "two")])
+        self.assertIs("one" in bench, True)
+        bench.put("three", EIGHT)
+        self.assertEqual([bench.ask("one", "three"), bench.apart("one", "three")], [("unlike",), 1])
+        bench.step("one", 85)
+        self.assertEqual([bench.known("one", "two"), bench.known("one", "three"), bench.ask("one", "three")[0]],
+                         [None, None, "alike"])
+        bench.grow("two", 0)
+        self.assertEqual([bench.code_of("two").basis, bench.known("one", "two"), len(bench)], [(768, 130, 65, 48, 12), None, 3])
+        with self.assertRaises(UnknownName) as caught:
+            bench.code_of("four")
+        self.assertEqual(caught.exception.wanted, "four")
+
+
+class ClaimsExamples(unittest.TestCase):
+    def test_in_own_and_held(self):
+        self.assertEqual([takes(("in", EIGHT, 60), (2, 3)), takes(("out", EIGHT, 3), 15), takes(("out", EIGHT, 3), 9),
+                          takes(("own", EIGHT), ()), takes(("foreign", Code(4, (3,))), ("outside", 12))],
+                         [True, False, False, True, True])
+        self.assertEqual([takes(("held", Code(4, (15,))), Code(4, (3, 12))), takes(("barred", Code(4, (7,))), (7, 7)),
+                          takes(("uneven", PLAIN), 3)], [True, True, True])
+        self.assertIs(answered(("uneven", EIGHT)) == (("fours", EIGHT), ()), True)
+
+    def test_apart_and_near(self):
+        self.assertEqual([takes(("apart", PLAIN), (0, 1, 4, 5)), takes(("unsplit", Code(2, (3,))), ((0, 1),)),
+                          takes(("near", PLAIN, EIGHT, 1), (195, 51, 15)), answered(("far", PLAIN, EIGHT, 0))[0][0]],
+                         [True, True, True, "far"])
+
+    def test_two(self):
+        self.assertEqual([takes(("two", (1, 0, 0, 0, 14, 0, 0, 0, 1)), (1, -4)), takes(("bent", (1, 0, 2)), ("unlike", 0)),
+                          opposite(("held", PLAIN))[0], is_claim(("held", Code(3, ())))], [True, True, "barred", False])
+
+    def test_refused(self):
+        with self.assertRaises(InvalidClaim):
+            opposite(("fours", Code(4, (3,))))
 
 
 if __name__ == "__main__":

@@ -4,12 +4,16 @@ import inspect
 import unittest
 
 from ownchecks.base import spans
-from ownchecks.code import codes
+from ownchecks.bench import bench
+from ownchecks.bench.bench import Bench
+from ownchecks.code import codes, cosets
 from ownchecks.code.codes import Code
 from ownchecks.four import families, shades, shadows
+from ownchecks.judge import claims
 from ownchecks.kinds import masses, tables
 from ownchecks.near import averages, every, neighbours, within
 from ownchecks.same import exchanges, fours, glue, parts
+from ownchecks.text import texts
 from ownchecks.weigh import counts, designs, two
 
 SPANS = {
@@ -224,10 +228,56 @@ DESIGNS = {
     "is_sure": ["code", "t"],
     "meetings": ["code", "weight", "word"],
 }
+COSETS = {
+    "coset_of": ["code", "word"],
+    "products_of": ["code", "word"],
+    "word_with": ["code", "bits"],
+    "leader": ["code", "word"],
+    "is_leader": ["code", "value"],
+    "nearest": ["code", "word"],
+    "leaders": ["code"],
+    "least_weights": ["code"],
+    "signed_counts": ["code", "word"],
+    "radius": ["code"],
+    "farthest": ["code"],
+    "parent_counts": ["code", "word"],
+}
+TEXTS = {
+    "code_text": ["code"],
+    "words_text": ["length", "words"],
+    "exchange_text": ["exchange"],
+    "counts_text": ["counts"],
+    "read_code": ["text"],
+    "read_words": ["text"],
+    "read_exchange": ["text"],
+    "read_counts": ["text"],
+}
+CLAIMS = {
+    "is_claim": ["value"],
+    "opposite": ["claim"],
+    "takes": ["claim", "paper"],
+    "answered": ["claim"],
+}
+METHODS = {
+    "put": ["name", "code"],
+    "drop": ["name"],
+    "step": ["name", "word"],
+    "turn": ["name", "exchange"],
+    "grow": ["name", "digit"],
+    "shrink": ["name", "one", "other"],
+    "unite": ["new", "name", "other"],
+    "undo": [],
+    "redo": [],
+    "code_of": ["name"],
+    "ask": ["name", "other"],
+    "known": ["name", "other"],
+    "apart": ["name", "other"],
+}
 MODULES = ((spans, SPANS), (codes, CODES), (counts, COUNTS), (neighbours, NEIGHBOURS), (every, EVERY),
            (exchanges, EXCHANGES), (parts, PARTS), (fours, FOURS), (masses, MASSES), (tables, TABLES),
            (two, TWO), (families, FAMILIES), (shadows, SHADOWS), (shades, SHADES),
-           (glue, GLUE), (averages, AVERAGES), (within, WITHIN), (designs, DESIGNS))
+           (glue, GLUE), (averages, AVERAGES), (within, WITHIN), (designs, DESIGNS), (cosets, COSETS), (texts, TEXTS),
+           (claims, CLAIMS))
 
 
 class Interface(unittest.TestCase):
@@ -247,6 +297,7 @@ class Interface(unittest.TestCase):
         self.assertEqual([counts.MOST_WORDS, exchanges.MOST_LENGTH], [4096, 16])
         self.assertEqual([masses.MOST_LENGTH, masses.MOST_CODES, tables.MOST_STEPS], [14, 8, 60])
         self.assertEqual([within.MOST_LISTED, designs.MOST_TOGETHER], [135, 5])
+        self.assertEqual([cosets.MOST_COSETS, texts.MOST_TEXT, bench.MOST_CODES, bench.MOST_NAME], [16, 10000, 12, 8])
         self.assertEqual(fours.KINDS, ("eight", "pair", "seven", "strip"))
 
     def test_class(self):
@@ -257,6 +308,20 @@ class Interface(unittest.TestCase):
             self.assertIsInstance(vars(Code)[name], property)
         for name in ("__init__", "__eq__", "__str__"):
             self.assertTrue(inspect.isfunction(vars(Code)[name]), name)
+
+    def test_bench(self):
+        self.assertTrue(inspect.isclass(Bench))
+        self.assertEqual(Bench.__module__, "ownchecks.bench.bench")
+        self.assertEqual(list(inspect.signature(Bench).parameters), [])
+        for name, arguments in METHODS.items():
+            told = vars(Bench)[name]
+            self.assertTrue(inspect.isfunction(told), name)
+            parameters = list(inspect.signature(told).parameters.values())
+            self.assertEqual([one.name for one in parameters], ["self"] + arguments, name)
+            self.assertEqual({one.default for one in parameters}, {inspect.Parameter.empty}, name)
+        self.assertIsInstance(vars(Bench)["names"], property)
+        for name in ("__init__", "__contains__", "__len__", "__eq__", "__str__"):
+            self.assertTrue(inspect.isfunction(vars(Bench)[name]), name)
 
     def test_kinds_of_answers(self):
         for answer, kind in ((spans.weight(3), int), (spans.product(1, 1), int), (spans.word_of((1,)), int),
@@ -358,6 +423,23 @@ class Interface(unittest.TestCase):
         for answer in (glue.put_together(4, lots, (), (3, 12))[1], averages.clearing(eight, 4)[1][0],
                        within.around_or_odd(own)[1], within.first_around(own), within.codes_around(own)[0],
                        within.between_by(own, own, own), within.codes_between(own, own)[0]):
+            self.assertIs(type(answer), Code)
+
+    def test_kinds_of_the_last_answers(self):
+        own, eight = Code(4, (3, 12)), Code(8, (15, 51, 85, 150))
+        for answer in (cosets.word_with(own, (0, 1)), cosets.leader(own, 1), cosets.radius(own), cosets.farthest(own)):
+            self.assertIs(type(answer), int)
+        for answer in (cosets.coset_of(own, 1), cosets.products_of(own, 1), cosets.nearest(own, 1), cosets.leaders(own),
+                       cosets.least_weights(own), cosets.signed_counts(own, 1), cosets.parent_counts(own, 1),
+                       texts.read_words("words 2\nend\n"), texts.read_words("words 2\n  01\nend\n")[1],
+                       texts.read_exchange("exchange 0\n"), texts.read_counts("counts 0 1\n"),
+                       claims.opposite(("own", own)), claims.answered(("own", own)), claims.answered(("own", own))[0],
+                       claims.answered(("unsplit", eight))[1], claims.answered(("unsplit", eight))[1][0],
+                       claims.answered(("near", own, own, 0))[1], claims.answered(("two", (1, 0, 1)))[1]):
+            self.assertIs(type(answer), tuple)
+        for answer in (texts.code_text(own), texts.words_text(2, ()), texts.exchange_text((0,)), texts.counts_text((1, 0))):
+            self.assertIs(type(answer), str)
+        for answer in (texts.read_code("code 1\nend\n"), claims.answered(("held", own))[1]):
             self.assertIs(type(answer), Code)
 
 

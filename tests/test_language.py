@@ -14,7 +14,8 @@ RuntimeError NotImplementedError AttributeError StopIteration NotImplemented""".
 DUNDERS = set("__init__ __eq__ __repr__ __str__ __len__ __enter__ __exit__ __call__ __iter__ __contains__".split())
 METHODS = set("""append clear copy count endswith extend find get index insert isalnum isalpha isdigit islower isspace
 isupper items join keys ljust lower lstrip partition pop remove replace reverse rfind rjust rpartition rsplit rstrip
-setdefault split splitlines startswith strip update upper values zfill bit_length add discard""".split())
+setdefault split splitlines startswith strip update upper values zfill bit_length add discard
+removeprefix removesuffix isascii isprintable""".split())
 BARRED = set("""typing typing_extensions enum Enum Generic Protocol ABC namedtuple NamedTuple TypedDict dataclass
 register mro elements open input law version_info eval exec globals locals vars compile os gc id hash sys""".split())
 LIBRARY = {"math": {"gcd", "lcm", "isqrt", "comb", "perm", "factorial"}, "itertools": {"combinations", "permutations"}}
@@ -57,7 +58,12 @@ class Language(unittest.TestCase):
                     self.assertIsInstance(node.value.value, str)
                 elif isinstance(node, ast.Assign):
                     self.assertIsInstance(node.targets[0], ast.Name)
-                    ast.literal_eval(node.value)
+                    # what is no literal is a table of functions that are defined above it
+                    above = {one.name for one in tree.body[:tree.body.index(node)] if isinstance(one, ast.FunctionDef)}
+                    named = {one.id for one in ast.walk(node.value) if isinstance(one, ast.Name)}
+                    self.assertLessEqual(named, above, path)
+                    if not named:
+                        ast.literal_eval(node.value)
                 else:
                     self.assertIsInstance(node, (ast.ImportFrom, ast.FunctionDef, ast.ClassDef), path)
 

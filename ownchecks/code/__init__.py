@@ -1,1 +1,1 @@
-"""Codes."""
+"""Codes, and their cosets."""

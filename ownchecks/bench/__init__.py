@@ -1,0 +1,1 @@
+"""A bench on which own codes are worked at."""

@@ -1,0 +1,1 @@
+"""Claims, and the papers that show them."""

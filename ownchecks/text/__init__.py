@@ -1,0 +1,1 @@
+"""Texts of codes, words, exchanges and counts."""
