@@ -288,6 +288,6 @@ def takes(claim, paper):
 def answered(claim):
     """The claim or its opposite, whichever is true, and a paper for it."""
     need_claim(claim)
-    find = ANSWERS[claim[0]]
-    word, paper = find(claim[1:])
+    finder = ANSWERS[claim[0]]
+    word, paper = finder(claim[1:])
     return (word,) + claim[1:], paper
