@@ -18,7 +18,7 @@ setdefault split splitlines startswith strip update upper values zfill bit_lengt
 removeprefix removesuffix isascii isprintable""".split())
 BARRED = set("""typing typing_extensions enum Enum Generic Protocol ABC namedtuple NamedTuple TypedDict dataclass
 register mro elements open input law version_info eval exec globals locals vars compile os gc id hash sys""".split())
-LIBRARY = {"math": {"gcd", "lcm", "isqrt", "comb", "perm", "factorial"}, "itertools": {"combinations", "permutations"}}
+LIBRARY = {"math": {"gcd", "lcm", "isqrt", "comb", "perm", "factorial"}}
 UNUSED = (ast.Global, ast.AsyncFunctionDef, ast.Await, ast.Set, ast.GeneratorExp, ast.Div, ast.MatMult, ast.Import,
           ast.AnnAssign)
 

@@ -1,6 +1,5 @@
 """Evenly spread words: how often the words of one weight of an own code have 1 at some places together."""
 
-from itertools import combinations
 from ownchecks.base.linear import is_ascending_below, is_integer, word_at
 from ownchecks.base.spans import need_number, need_word
 from ownchecks.code.codes import need_own
@@ -37,18 +36,26 @@ def columns_of(length, words):
     return [word_at([at for at, word in enumerate(words) if word >> place & 1]) for place in range(length)]
 
 
+def lots_of(length, t):
+    """All lots of t places, ascending."""
+    lots = [()]
+    for _ in range(t):
+        lots = [lot + (place,) for lot in lots for place in range(lot[-1] + 1 if lot else 0, length)]
+    return lots
+
+
 def unlike_lots(length, words, t):
     """Two lots of t places with unlike times, or None if there are none such."""
     columns = columns_of(length, words)
-    first = tuple(range(t))
-    times = times_by(words, first)
-    for lot in combinations(range(length), t):
+    lots = lots_of(length, t)
+    times = times_by(words, lots[0])
+    for lot in lots:
         common = (1 << len(words)) - 1
         for place in lot:
             common &= columns[place]
         # many words are counted at once so: there are thousands of lots
         if f"{common:b}".count("1") != times:
-            return first, lot
+            return lots[0], lot
     return None
 
 
