@@ -110,6 +110,19 @@ class Around(unittest.TestCase):
             self.assertEqual([one.basis for one in found], sorted(naive.basis(own) for own in owns))
             self.assertEqual({one.length for one in found}, {code.length} if owns else set())
 
+    def test_each_word_that_can_be_put_in_is_in_equally_many(self):
+        for span, code in cases()[::3]:
+            owns = [naive.sums(one.basis) for one in codes_around(code)]
+            if not owns:
+                continue
+            got = naive.sums([*span, 2 ** code.length - 1])
+            free = [word for word in range(2 ** code.length)
+                    if word not in got and all(naive.even(word, one) for one in naive.basis(got))]
+            many = {len([own for own in owns if word in own]) for word in free}
+            self.assertLessEqual(len(many), 1)
+            for word in free[:3]:
+                self.assertEqual(many, {count_around(Code(code.length, code.basis + (word,)))})
+
     def test_longer_codes(self):
         for inner in longer_inner(173):
             half = inner.length // 2
